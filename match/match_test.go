@@ -99,6 +99,9 @@ func TestAllowed(t *testing.T) {
 		{[]api.Rule{allow("/a"), allow("/ab"), disallow("/abc"), disallow("/b")}, "/abcd", false},
 		{[]api.Rule{disallow("/abc"), allow("/xyz"), disallow("/ab"), allow("/abc")}, "/abcd", true},
 		{[]api.Rule{disallow("/%"), allow("/")}, "/%", false},
+		{[]api.Rule{disallow("/~")}, "/%7ex", false},
+		{[]api.Rule{disallow("/a"), allow("/%20")}, "/ ", true},
+		{[]api.Rule{disallow("/%20")}, "/ ", false},
 		{[]api.Rule{disallow("/ab"), allow("/a"), allow("/")}, "/ab", false},
 	} {
 		if got := Allowed(c.list, c.path); got != c.want {
