@@ -92,6 +92,7 @@ func TestOnce(t *testing.T) {
 		{[]api.Event{event(api.Asked, 0, -1, "a"), event(api.Asked, 1, -1, "a"), event(api.Sent, 1, -1, "a")}, true},
 		{[]api.Event{event(api.Late, 0, 1, "a"), event(api.Barred, 1, 1, "a"), event(api.Sent, 1, 1, "a"), event(api.Nothing, 1, 1, "a"), event(9, 1, 1, "a")}, true},
 		{[]api.Event{event(api.Sent, 0, 0, "a"), event(api.Sent, 0, 0, "a")}, false},
+		{[]api.Event{event(api.Asked, 0, -1, "a"), event(api.Sent, 0, 4, "a"), event(api.Late, 0, 4, "a"), event(api.Sent, 0, 4, "a")}, false},
 		{[]api.Event{event(api.Sent, 0, -3, "a"), event(api.Sent, 0, -3, "a")}, false},
 	} {
 		if got := Once(c.list); got != c.want {
