@@ -427,6 +427,12 @@ func TestLate(t *testing.T) {
 		t.Error("a late request takes a token")
 	}
 	r.poll(api.Sent, just)
+	// The least time that is not 0.
+	r = start(t, config())
+	late = r.add("http://a/late", 0, 1)
+	r.learn(0, "http://a", "")
+	r.clock(100)
+	r.poll(api.Late, late)
 	// A late request isn't looked at for the rules.
 	r = start(t, config())
 	late = r.add("http://a/late", 0, 99)
@@ -651,6 +657,11 @@ func TestCrashKeepsWhatHostsRequest(t *testing.T) {
 	r.poll(api.Sent, api.Req{ID: 1, Host: "http://a", Path: "/1"})
 	r.silent(api.Step{Kind: api.StepFault, A: 2, B: 1}, api.OK)
 	r.answer(1, 200, "", "Retry-After", "Thu, 01 Jan 1970 00:01:00 GMT")
+	r.silent(api.Step{Kind: api.StepFault}, api.OK)
+	r.clock(60200)
+	r.poll(api.Sent, api.Req{ID: 2, Host: "http://a", Path: "/2"})
+	r.silent(api.Step{Kind: api.StepFault, A: 2, B: 1}, api.OK)
+	r.answer(2, 200, "", "Retry-After", "0")
 	if r.s.Segs() != segs {
 		t.Error("segments", r.s.Segs())
 	}

@@ -23,7 +23,6 @@ func (l *Log) Compact() api.Errno {
 	fresh, e := l.rewrite(old)
 	if e != api.OK {
 		// The old segments still hold all. Should this fail too, the next prune makes up for it.
-		slices.Reverse(fresh)
 		drop(l.disk, fresh...)
 		return e
 	}
@@ -62,21 +61,17 @@ func (l *Log) rewrite(old []int) ([]int, api.Errno) {
 	return all[len(old):], l.disk.Sync()
 }
 
-// pack returns the contents of segments with all records of the state. Records that are on the disk
-// keep their order, in which they never take more segments than before; others go where there is room.
+// pack returns the contents of segments with all records of the state. In the order of the log, and
+// each in the first segment with room for it, they never take more segments than before.
 func (l *Log) pack() [][]byte {
 	var chunks [][]byte
 	for _, r := range l.records() {
-		first := max(len(chunks)-1, 0)
-		if r.at == nowhere {
-			first = 0
-		}
-		i := slices.IndexFunc(chunks[first:], func(chunk []byte) bool { return len(chunk)+len(r.bytes) <= api.MaxSeg })
+		i := slices.IndexFunc(chunks, func(chunk []byte) bool { return len(chunk)+len(r.bytes) <= api.MaxSeg })
 		if i < 0 {
 			chunks = append(chunks, r.bytes)
 			continue
 		}
-		chunks[first+i] = append(chunks[first+i], r.bytes...)
+		chunks[i] = append(chunks[i], r.bytes...)
 	}
 	return chunks
 }
@@ -120,10 +115,9 @@ func (l *Log) prune() api.Errno {
 	if e := l.disk.Sync(); e != api.OK {
 		return e
 	}
-	segs := l.disk.Segs()
-	all := replay(l.disk, segs...)
+	all := replay(l.disk, l.disk.Segs()...)
 	for _, seg := range l.disk.Segs() {
-		others := slices.DeleteFunc(slices.Clone(segs), func(s int) bool { return s == seg })
+		others := slices.DeleteFunc(l.disk.Segs(), func(s int) bool { return s == seg })
 		rest := replay(l.disk, others...)
 		if !l.holds(rest, all) {
 			continue
@@ -131,8 +125,8 @@ func (l *Log) prune() api.Errno {
 		if e := drop(l.disk, seg); e != api.OK {
 			return e
 		}
-		segs, all = others, rest
 		l.follow(rest)
+		all = rest
 	}
 	return api.OK
 }

@@ -161,6 +161,14 @@ func TestNextLastsWithoutRequests(t *testing.T) {
 	if open(t, d, 2).Next() != 42 || l.Size() != 1 {
 		t.Error(open(t, d, 2).Next(), l.Size())
 	}
+	d = disk.New(5)
+	l = open(t, d, 2)
+	is(t, "Put", l.Put(req(1)), api.OK)
+	is(t, "Done", l.Done(1), api.OK)
+	is(t, "Compact", l.Compact(), api.OK)
+	if open(t, d, 2).Next() != 2 {
+		t.Error(open(t, d, 2).Next())
+	}
 	empty := open(t, disk.New(1), 1)
 	is(t, "Compact of nothing", empty.Compact(), api.OK)
 	if empty.Size() != 0 || empty.Next() != 1 {
@@ -385,6 +393,157 @@ func TestCompactAtEveryFault(t *testing.T) {
 				}
 			}
 		}
+	}
+}
+
+// sized is a request whose record has so many bytes.
+func sized(id, size int) api.Req {
+	const empty = 26
+	host := min(size-empty, api.MaxURL)
+	return api.Req{ID: id, Host: strings.Repeat("h", host), Path: strings.Repeat("p", size-empty-host)}
+}
+
+// TestCompactOfAFullLog checks that a state that fills all segments fits into as many again.
+func TestCompactOfAFullLog(t *testing.T) {
+	d := disk.New(5)
+	l := open(t, d, 2)
+	is(t, "Wait", l.Wait(strings.Repeat("w", 74), 9), api.OK)
+	for id, size := range []int{974, 974, 1024, 974, 50} {
+		is(t, "Put", l.Put(sized(id, size)), api.OK)
+	}
+	for _, seg := range d.Segs() {
+		if b, _ := d.Read(seg); len(b) != api.MaxSeg {
+			t.Fatalf("segment %d has %d bytes", seg, len(b))
+		}
+	}
+	for range 3 {
+		is(t, "Compact", l.Compact(), api.OK)
+		if l.Size() != 2 {
+			t.Error("segments", d.Segs())
+		}
+		holds(t, l, 0, 1, 2, 3, 4)
+	}
+	is(t, "Put without room", l.Put(sized(5, 26)), api.ErrFull)
+	is(t, "Done", l.Done(4), api.OK)
+	holds(t, open(t, d, 2), 0, 1, 2, 3)
+}
+
+// TestRoomAfterHalfACompact stops the Compact of a full log by faults and a crash. What is left of it
+// must not take away the room for the next one.
+func TestRoomAfterHalfACompact(t *testing.T) {
+	for behind := range 9 {
+		for _, count := range []int{1, 2, 3, 100} {
+			for _, keep := range []int{-1, 0, 100, 1100, 2000, 1 << 30} {
+				d := disk.New(7)
+				l := open(t, d, 3)
+				for id := 1; id <= 3; id++ {
+					is(t, "Put", l.Put(sized(id, 1050)), api.OK)
+				}
+				is(t, "Wait", l.Wait("w", 9), api.OK)
+				d.Fault(behind, count)
+				l.Compact()
+				if keep >= 0 {
+					d.Crash(keep)
+					l = open(t, d, 3)
+				}
+				d.Fault(0, 0)
+				holds(t, l, 1, 2, 3)
+				is(t, "Compact", l.Compact(), api.OK)
+				is(t, "Put", l.Put(req(4)), api.OK)
+				is(t, "Done", l.Done(2), api.OK)
+				if l.Size() > 3 || l.Until("w") != 9 {
+					t.Errorf("fault %d, %d: segments %v", behind, count, d.Segs())
+				}
+				d.Crash(0)
+				holds(t, open(t, d, 3), 1, 3, 4)
+			}
+		}
+	}
+}
+
+func TestFailedCompactLeavesNothing(t *testing.T) {
+	for behind := range 4 {
+		d := disk.New(7)
+		l := open(t, d, 3)
+		for id := 1; id <= 3; id++ {
+			is(t, "Put", l.Put(sized(id, 1050)), api.OK)
+		}
+		d.Fault(behind, 1)
+		is(t, "Compact", l.Compact(), api.ErrDisk)
+		if got := d.Segs(); !slices.Equal(got, []int{0, 1, 2}) {
+			t.Errorf("fault %d: segments %v", behind, got)
+		}
+	}
+}
+
+// TestTooManySegments checks which ones are dropped where Compact finds more segments than the log
+// may have, and that it changes nothing wherever it fails.
+func TestTooManySegments(t *testing.T) {
+	put := func(id int) frame.Rec { return frame.Rec{Kind: frame.Put, Req: req(id)} }
+	done := func(id int) frame.Rec { return frame.Rec{Kind: frame.Done, Req: api.Req{ID: id}} }
+	wait := func(until int) frame.Rec {
+		return frame.Rec{Kind: frame.Wait, Req: api.Req{Host: "w", Until: until}}
+	}
+	other := put(5)
+	other.Req.Path = "/other"
+	for i, c := range []struct {
+		segs  [][]frame.Rec
+		ids   []int
+		until int
+		next  int
+	}{
+		{[][]frame.Rec{{put(1), put(5)}, {done(1)}, {wait(7), wait(8)}, {put(3)}, {put(3)}}, []int{3, 5}, 8, 6},
+		{[][]frame.Rec{{put(1)}, {done(1)}, {wait(9)}, {wait(8)}, {put(9)}, {done(9)}}, nil, 9, 10},
+		{[][]frame.Rec{{put(5), put(9)}, {put(5)}}, []int{5, 9}, 0, 10},
+		{[][]frame.Rec{{put(5), put(6)}, {other}, {put(6)}}, []int{5, 6}, 0, 7},
+		{[][]frame.Rec{{other}, {put(5)}, {}, {wait(3)}}, []int{5}, 3, 6},
+	} {
+		for behind := range 15 {
+			d := disk.New(len(c.segs))
+			for seg, list := range c.segs {
+				is(t, "Append", d.Append(seg, nil), api.OK)
+				for _, rec := range list {
+					b, _ := frame.Encode(rec)
+					is(t, "Append", d.Append(seg, b), api.OK)
+				}
+			}
+			is(t, "Sync", d.Sync(), api.OK)
+			l := open(t, d, 1)
+			before := l.Pending()
+			d.Fault(behind, 100)
+			e := l.Compact()
+			if e != api.OK && e != api.ErrDisk {
+				t.Errorf("%d, fault %d: Compact: %d", i, behind, e)
+			}
+			d.Crash(0)
+			for _, l := range []*Log{l, open(t, d, 1)} {
+				holds(t, l, c.ids...)
+				if !slices.Equal(l.Pending(), before) || l.Until("w") != c.until || l.Next() != c.next {
+					t.Errorf("%d, fault %d: %v, until %d, next %d", i, behind, l.Pending(), l.Until("w"), l.Next())
+				}
+			}
+			if behind == 14 && (e != api.OK || l.Size() != 1) {
+				t.Errorf("%d: Compact: %d, segments %v", i, e, d.Segs())
+			}
+		}
+	}
+}
+
+// TestLoadOfWhatIsGone has somebody else change the disk.
+func TestLoadOfWhatIsGone(t *testing.T) {
+	d := disk.New(3)
+	l := open(t, d, 1)
+	is(t, "Put", l.Put(req(1)), api.OK)
+	is(t, "Put", l.Put(req(2)), api.OK)
+	is(t, "Drop", d.Drop(0), api.OK)
+	is(t, "Append", d.Append(0, make([]byte, 40)), api.OK)
+	for id := 1; id <= 2; id++ {
+		if r, ok := l.Load(id); ok || r != (api.Req{}) {
+			t.Errorf("Load(%d) = %+v", id, r)
+		}
+	}
+	if list := l.Pending(); len(list) != 0 {
+		t.Error("Pending", list)
 	}
 }
 
