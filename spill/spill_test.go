@@ -491,15 +491,17 @@ func TestTooManySegments(t *testing.T) {
 		ids   []int
 		until int
 		next  int
+		spare int // segments that the disk has room for
 	}{
-		{[][]frame.Rec{{put(1), put(5)}, {done(1)}, {wait(7), wait(8)}, {put(3)}, {put(3)}}, []int{3, 5}, 8, 6},
-		{[][]frame.Rec{{put(1)}, {done(1)}, {wait(9)}, {wait(8)}, {put(9)}, {done(9)}}, nil, 9, 10},
-		{[][]frame.Rec{{put(5), put(9)}, {put(5)}}, []int{5, 9}, 0, 10},
-		{[][]frame.Rec{{put(5), put(6)}, {other}, {put(6)}}, []int{5, 6}, 0, 7},
-		{[][]frame.Rec{{other}, {put(5)}, {}, {wait(3)}}, []int{5}, 3, 6},
+		{[][]frame.Rec{{put(1), put(5)}, {done(1)}, {wait(7), wait(8)}, {put(3)}, {put(3)}}, []int{3, 5}, 8, 6, 0},
+		{[][]frame.Rec{{put(1)}, {done(1)}, {wait(9)}, {wait(8)}, {put(9)}, {done(9)}}, nil, 9, 10, 0},
+		{[][]frame.Rec{{put(5), put(9)}, {put(5)}}, []int{5, 9}, 0, 10, 0},
+		{[][]frame.Rec{{put(5), put(6)}, {other}, {put(6)}}, []int{5, 6}, 0, 7, 0},
+		{[][]frame.Rec{{put(1), put(5)}, {other}, {put(6)}}, []int{1, 5, 6}, 0, 7, 1},
+		{[][]frame.Rec{{other}, {put(5)}, {}, {wait(3)}}, []int{5}, 3, 6, 0},
 	} {
 		for behind := range 15 {
-			d := disk.New(len(c.segs))
+			d := disk.New(len(c.segs) + c.spare)
 			for seg, list := range c.segs {
 				is(t, "Append", d.Append(seg, nil), api.OK)
 				for _, rec := range list {
@@ -536,7 +538,7 @@ func TestLoadOfWhatIsGone(t *testing.T) {
 	is(t, "Put", l.Put(req(1)), api.OK)
 	is(t, "Put", l.Put(req(2)), api.OK)
 	is(t, "Drop", d.Drop(0), api.OK)
-	is(t, "Append", d.Append(0, make([]byte, 40)), api.OK)
+	is(t, "Append", d.Append(0, make([]byte, 20)), api.OK)
 	for id := 1; id <= 2; id++ {
 		if r, ok := l.Load(id); ok || r != (api.Req{}) {
 			t.Errorf("Load(%d) = %+v", id, r)
